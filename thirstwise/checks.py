@@ -1,0 +1,8 @@
+"""What counts as a whole number, in one place for all files."""
+
+
+def is_whole(value, least, most):
+    # True and False are of the kind int in Python, but no numbers of a garden.
+    if isinstance(value, bool) or not isinstance(value, int):
+        return False
+    return least <= value <= most
