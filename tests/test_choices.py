@@ -1,29 +1,10 @@
 import unittest
 
+from oracle import expected_choices, told
 from thirstwise.choices import choices
 from thirstwise.errors import NoState
 from thirstwise.gardens import Garden
 from thirstwise.pots import Cactus, Pot
-
-
-def expected_choices(garden, state):
-    # Every number is tried, straight by the document's points 4 and 5.
-    day, sinces = state
-    found = []
-    for choice in range(2 ** len(garden.pots)):
-        watered = [choice // 2 ** k % 2 == 1 for k in range(len(garden.pots))]
-        if choice != 0 and garden.closed // 2 ** day % 2 == 1:
-            continue
-        if sum(watered) > garden.cans:
-            continue
-        rests = [pot.rest if isinstance(pot, Cactus) else 0 for pot in garden.pots]
-        if any(water and since < rest for water, since, rest in zip(watered, sinces, rests)):
-            continue
-        behind = tuple(0 if water else since + 1 for water, since in zip(watered, sinces))
-        if any(since == pot.gap for since, pot in zip(behind, garden.pots)):
-            continue
-        found.append((choice, (0 if day + 1 == garden.week else day + 1, behind)))
-    return found
 
 
 class ChoicesTest(unittest.TestCase):
@@ -95,7 +76,7 @@ class ChoicesTest(unittest.TestCase):
                     for number in range(garden.size()):
                         state = garden.state(number)
                         self.assertEqual(choices(garden, state), expected_choices(garden, state),
-                                         ([pot.words() for pot in pots], cans, week, closed, state))
+                                         (told(garden), state))
 
     def test_kinds_of_what_is_given_back(self):
         found = choices(Garden([Pot("fern", 2)]), (0, (0,)))

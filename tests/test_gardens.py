@@ -1,6 +1,7 @@
 import unittest
 from itertools import product
 
+from oracle import told
 from thirstwise.choices import choices
 from thirstwise.errors import BadPot, NoPot, NoState, TooMany
 from thirstwise.gardens import Garden, joined, with_cans, with_gap
@@ -11,10 +12,6 @@ NO_WHOLE_NUMBERS = (True, False, None, "1", "", 1.0, [1], (1,), {}, b"1")
 
 def pots_of(gaps):
     return [Pot("abcdefghijklmnopqrstuvwxyz"[k], gap) for k, gap in enumerate(gaps)]
-
-
-def told(garden):
-    return ([pot.words() for pot in garden.pots], garden.cans, garden.week, garden.closed)
 
 
 def answers(garden):

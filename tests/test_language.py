@@ -70,6 +70,20 @@ class LanguageTest(unittest.TestCase):
             if isinstance(node, ast.Constant):
                 self.assertNotIsInstance(node.value, (float, bytes, complex), place)
 
+    def test_is_stands_beside_none_true_and_false_alone(self):
+        for place, node in places():
+            if isinstance(node, ast.Compare) and isinstance(node.ops[0], (ast.Is, ast.IsNot)):
+                self.assertIsInstance(node.comparators[0], ast.Constant, place)
+                self.assertIn(node.comparators[0].value, (None, True, False), place)
+
+    def test_errors_are_taken_by_their_own_names(self):
+        for place, node in places():
+            if isinstance(node, ast.ExceptHandler):
+                self.assertIsInstance(node.type, ast.Name, place)
+                self.assertNotIn(node.type.id, ("Exception", "TypeError"), place)
+            if isinstance(node, ast.Raise):
+                self.assertIsInstance(node.exc, ast.Call, place)
+
     def test_functions(self):
         for place, node in places():
             if isinstance(node, ast.FunctionDef):
@@ -102,6 +116,18 @@ class LanguageTest(unittest.TestCase):
             if isinstance(node, ast.Attribute) and isinstance(node.ctx, ast.Store):
                 values.add(node.attr)
         self.assertEqual(methods & values, set())
+
+    def test_no_two_files_draw_from_one_another(self):
+        drawn = {path.stem: set() for path in FILES}
+        for path in FILES:
+            for node in ast.walk(ast.parse(path.read_text(encoding="utf-8"))):
+                if isinstance(node, ast.ImportFrom):
+                    drawn[path.stem].add(node.module.split(".")[-1])
+        while drawn:
+            free = [stem for stem, others in drawn.items() if not others & set(drawn)]
+            self.assertNotEqual(free, [], drawn)
+            for stem in free:
+                del drawn[stem]
 
 
 if __name__ == "__main__":

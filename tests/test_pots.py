@@ -58,6 +58,9 @@ class PotTest(unittest.TestCase):
                 with self.assertRaises(BadPot):
                     Pot("fern", 4).with_gap(gap)
 
+    def test_the_shortest_gap(self):
+        self.assertEqual([Pot("fern", gap).shortest() for gap in (1, 4, 60)], [1, 1, 1])
+
 
 class CactusTest(unittest.TestCase):
 
@@ -118,6 +121,9 @@ class CactusTest(unittest.TestCase):
             with self.subTest(gap=gap):
                 with self.assertRaises(BadPot):
                     Cactus("agave", 5, 3).with_gap(gap)
+
+    def test_the_shortest_gap_is_one_above_the_rest(self):
+        self.assertEqual([Cactus("agave", 60, rest).shortest() for rest in (0, 1, 59)], [1, 2, 60])
 
 
 if __name__ == "__main__":

@@ -1,4 +1,4 @@
-"""What counts as a whole number, in one place for all files."""
+"""What is asked of plain numbers, in one place for all files."""
 
 
 def is_whole(value, least, most):
@@ -6,3 +6,7 @@ def is_whole(value, least, most):
     if isinstance(value, bool) or not isinstance(value, int):
         return False
     return least <= value <= most
+
+
+def is_set(number, bit):
+    return number >> bit & 1 == 1

@@ -1,11 +1,16 @@
 """A day's choices: which pots may be watered, and what state lies behind."""
 
+from thirstwise.checks import is_set
 from thirstwise.gardens import refuse_no_state
 
 
 def cans_on(garden, day):
     # A closed day allows what a day without cans allows: the choice 0 alone.
-    return 0 if garden.closed >> day & 1 else garden.cans
+    return 0 if is_set(garden.closed, day) else garden.cans
+
+
+def day_behind(garden, day):
+    return (day + 1) % garden.week
 
 
 def without_water(parts, pot, since):
@@ -30,5 +35,5 @@ def choices(garden, state):
         # The watered ones come last: their bit is above all others, so the choices stay rising.
         parts = without_water(parts, pot, since) + with_water(parts, pot, since, bit)
         bit = bit * 2
-    tomorrow = (day + 1) % garden.week
+    tomorrow = day_behind(garden, day)
     return [(choice, (tomorrow, behind)) for choice, cans, behind in parts]

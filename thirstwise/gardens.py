@@ -97,10 +97,17 @@ def with_cans(garden, cans):
     return Garden(garden.pots, cans, garden.week, garden.closed)
 
 
-def with_gap(garden, name, gap):
-    if name not in [pot.name for pot in garden.pots]:
+def place_of(garden, name):
+    names = [pot.name for pot in garden.pots]
+    if name not in names:
         raise NoPot("no pot of the garden bears this name")
-    pots = [pot.with_gap(gap) if pot.name == name else pot for pot in garden.pots]
+    return names.index(name)
+
+
+def with_gap(garden, name, gap):
+    place = place_of(garden, name)
+    pots = list(garden.pots)
+    pots[place] = pots[place].with_gap(gap)
     return Garden(pots, garden.cans, garden.week, garden.closed)
 
 

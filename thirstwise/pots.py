@@ -33,6 +33,10 @@ class Pot:
     def with_gap(self, gap):
         return Pot(self.name, gap)
 
+    def shortest(self):
+        # The least gap that the pot can have, all else as it is.
+        return 1
+
 
 class Cactus(Pot):
 
@@ -50,3 +54,6 @@ class Cactus(Pot):
 
     def with_gap(self, gap):
         return Cactus(self.name, gap, self.rest)
+
+    def shortest(self):
+        return self.rest + 1
